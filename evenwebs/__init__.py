@@ -1,0 +1,1 @@
+"""Evenwebs: webs in which any two places look alike."""
