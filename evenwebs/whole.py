@@ -1,4 +1,4 @@
-"""Whole numbers: what counts as one, wherever anything may be handed in."""
+"""Whole numbers: what counts as one, wherever anything may be handed in, and whole roots."""
 
 
 def is_whole(thing):
@@ -8,3 +8,11 @@ def is_whole(thing):
 
 def is_whole_within(thing, least, most):
     return is_whole(thing) and least <= thing <= most
+
+
+def root_of(number):
+    # The numbers here are small: a walk is plainer than a quicker way.
+    root = 0
+    while root * root < number:
+        root = root + 1
+    return root if root * root == number else None

@@ -18,6 +18,12 @@ METHODS = set(
     "isupper items join keys ljust lower lstrip partition pop remove replace reverse rfind rjust rpartition "
     "rsplit rstrip setdefault split splitlines startswith strip update upper values zfill bit_length".split()
 )
+KEYWORDS = {
+    "sorted": {"key", "reverse"}, "min": {"key", "default"}, "max": {"key", "default"},
+    "sum": {"start"}, "enumerate": {"start"}, "zip": {"strict"},
+}
+WALKED = {"zip", "enumerate", "reversed", "range", "items", "keys", "values"}
+WALKERS = {"list", "tuple", "dict", "sorted", "sum", "any", "all", "enumerate", "zip", "min", "max", "join"}
 SPECIAL = {"__init__", "__eq__", "__repr__", "__str__", "__len__"}
 NOT_NAMES = set(
     "register mro elements open input version_info with_traceback add_note attrgetter breakpoint builtins "
@@ -70,6 +76,25 @@ def top_names(tree):
         elif isinstance(node, ast.ImportFrom):
             names.extend(alias.asname or alias.name for alias in node.names)
     return names
+
+
+def called_name(node):
+    """The name by which something is called, a method's among them; None of anything else."""
+    if not isinstance(node, ast.Call):
+        return None
+    return node.func.attr if isinstance(node.func, ast.Attribute) else getattr(node.func, "id", None)
+
+
+def nodes_with_parents():
+    """Each node with the one that it stands in and the one above that."""
+    told = []
+    for name, tree in trees():
+        above = {}
+        for node in ast.walk(tree):
+            for part in ast.iter_child_nodes(node):
+                above[part] = node
+                told.append((name, part, node, above.get(node)))
+    return told
 
 
 def drawn_from(tree):
@@ -187,6 +212,37 @@ class Language(unittest.TestCase):
         for name, node in nodes_of(ast.BinOp):
             if isinstance(node.op, ast.Pow):
                 self.assertIsInstance(node.right, ast.Constant, (name, node.lineno))
+
+    def test_pythons_own_are_called_where_they_stand(self):
+        functions = {each for each in BUILT_IN if not isinstance(getattr(builtins, each), type)}
+        for name, node, parent, above in nodes_with_parents():
+            if isinstance(node, ast.Name) and node.id in functions and not isinstance(parent, ast.keyword):
+                self.assertTrue(isinstance(parent, ast.Call) and parent.func is node, (name, node.lineno))
+
+    def test_keywords(self):
+        for name, node in nodes_of(ast.Call):
+            called = called_name(node)
+            if called in BUILT_IN | METHODS:
+                given = {keyword.arg for keyword in node.keywords}
+                self.assertLessEqual(given, KEYWORDS.get(called, set()), (name, node.lineno))
+
+    def test_what_is_walked_is_walked_at_once(self):
+        for name, node, parent, above in nodes_with_parents():
+            if called_name(node) in WALKED:
+                looped = isinstance(parent, (ast.For, ast.comprehension)) and parent.iter is node
+                taken = called_name(parent) in WALKERS and node in parent.args
+                self.assertTrue(looped or taken, (name, node.lineno))
+
+    def test_sets_are_not_kept(self):
+        joins = (ast.Sub, ast.BitAnd, ast.BitOr, ast.BitXor)
+        for name, node, parent, above in nodes_with_parents():
+            self.assertNotIsInstance(node, ast.Set, name)
+            if called_name(node) not in ("set", "frozenset"):
+                continue
+            joined = isinstance(parent, ast.BinOp) and isinstance(parent.op, joins)
+            holder = above if joined else parent
+            self.assertTrue(
+                isinstance(holder, ast.Compare) or called_name(holder) in ("sorted", "len"), (name, node.lineno))
 
     def test_is(self):
         for name, node in nodes_of(ast.Compare):

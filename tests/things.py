@@ -61,3 +61,78 @@ def small_webs(most):
                     rows[q].append(p)
             told.append(tuple(tuple(sorted(row)) for row in rows))
     return told
+
+
+def web_where(many, are_tied):
+    """The web of so many places, two of them tied where it is told so, made without the program."""
+    return tuple(tuple(q for q in range(many) if q != p and are_tied(p, q)) for p in range(many))
+
+
+def grid(m):
+    """m by m cells, tied where they share the row or the column."""
+    return web_where(m * m, lambda p, q: p // m == q // m or p % m == q % m)
+
+
+def pairs_out_of(m):
+    """The pairs out of m things, tied where they have one in common."""
+    pairs = [(x, y) for x in range(m) for y in range(x + 1, m)]
+    return web_where(len(pairs), lambda p, q: bool(set(pairs[p]) & set(pairs[q])))
+
+
+def lots(many, size):
+    """So many lots of so many places each, all tied within a lot and none beyond it."""
+    return web_where(many * size, lambda p, q: p // size == q // size)
+
+
+def spokes(many, leaps):
+    """So many places in a round, tied where one of the leaps leads from one to the other."""
+    return web_where(many, lambda p, q: (p - q) % many in leaps or (q - p) % many in leaps)
+
+
+def prime_web(q):
+    """The places are what is left by a prime, tied where their difference is a square."""
+    return spokes(q, {x * x % q for x in range(1, q)})
+
+
+def four_digit_web():
+    """Sixteen places, tied where their four digits by 2 differ in just one or in all."""
+    return web_where(16, lambda p, q: bin(p ^ q).count("1") in (1, 4))
+
+
+def leaning_grid():
+    """Sixteen cells of a round board, tied to the next ones in the row, the column and one slant."""
+    leaps = ((1, 0), (3, 0), (0, 1), (0, 3), (1, 1), (3, 3))
+    return web_where(16, lambda p, q: ((p // 4 - q // 4) % 4, (p - q) % 4) in leaps)
+
+
+def fifty_web():
+    """Five rings and five stars of five places, put together so that no three or four close."""
+    def are_tied(p, q):
+        if p > q:
+            return are_tied(q, p)
+        h, j = p // 5, p % 5
+        i, t = q // 5, q % 5
+        if h == i:
+            return (j - t) % 5 in ((1, 4) if h < 5 else (2, 3))
+        return h < 5 <= i and t == (h * (i - 5) + j) % 5
+    return web_where(50, are_tied)
+
+
+def even_webs():
+    """Even webs, each with its numbers as they are known."""
+    told = [(((),), (1, 0, None, None))]
+    for many in (2, 3, 7, 50):
+        told.append((bare(many), (many, 0, None, 0)))
+        told.append((full(many), (many, many - 1, many - 2, None)))
+    told.extend((grid(m), (m * m, 2 * (m - 1), m - 2, 2)) for m in range(2, 8))
+    told.append((pairs_out_of(3), (3, 2, 1, None)))
+    told.extend((pairs_out_of(m), (m * (m - 1) // 2, 2 * (m - 2), m - 2, 4)) for m in range(4, 11))
+    for many, size in ((2, 2), (2, 3), (3, 2), (5, 4), (2, 25), (25, 2), (7, 7)):
+        told.append((lots(many, size), (many * size, size - 1, size - 2, 0)))
+    for q in (5, 13, 17, 29, 37, 41):
+        told.append((prime_web(q), (q, (q - 1) // 2, (q - 5) // 4, (q - 1) // 4)))
+    told.append((ring(5), (5, 2, 0, 1)))
+    told.append((four_digit_web(), (16, 5, 0, 2)))
+    told.append((leaning_grid(), (16, 6, 2, 2)))
+    told.append((fifty_web(), (50, 7, 0, 1)))
+    return told
