@@ -4,6 +4,7 @@ import unittest
 from evenwebs.errors import NoNumbers
 from evenwebs.numbers import common, evenness, may_be_numbers, other_numbers, shows_uneven
 from evenwebs.webs import other_web
+from refusing import Refusing
 from things import (
     anything, bare, copied, deep, even_webs, full, grid, lots, pairs_out_of, ring, small_webs, spokes, web_where,
 )
@@ -365,12 +366,9 @@ class MayBeNumbers(unittest.TestCase):
             self.assertEqual(thing, before)
 
 
-class OtherNumbers(unittest.TestCase):
+class OtherNumbers(Refusing):
     def assert_refused(self, thing):
-        with self.subTest(repr(thing)[:80]):
-            with self.assertRaises(NoNumbers) as caught:
-                other_numbers(thing)
-            self.assertIs(type(caught.exception), NoNumbers)
+        self.assert_refuses(NoNumbers, other_numbers, thing)
 
     def test_small_ones(self):
         for numbers, other in (

@@ -6,6 +6,7 @@ from fractions import Fraction
 from evenwebs.errors import NoNumbers
 from evenwebs.numbers import evenness
 from evenwebs.tables import barred, is_table, tables_of, turned_table, worths
+from refusing import Refusing
 from things import anything, copied, deep, even_webs, small_webs
 
 # Each is outside by one part alone.
@@ -69,12 +70,9 @@ def bars_by_the_words(table):
     return told
 
 
-class Refusing(unittest.TestCase):
+class RefusingTables(Refusing):
     def assert_refused(self, asked, thing):
-        with self.subTest(repr((asked.__name__, thing))[:100]):
-            with self.assertRaises(NoNumbers) as caught:
-                asked(thing)
-            self.assertIs(type(caught.exception), NoNumbers)
+        self.assert_refuses(NoNumbers, asked, thing)
 
     def assert_refuses_no_tables(self, asked):
         for thing in list(NO_TABLES) + anything():
@@ -117,7 +115,7 @@ class IsTable(unittest.TestCase):
             self.assertEqual(thing, before)
 
 
-class TurnedTable(Refusing):
+class TurnedTable(RefusingTables):
     def test_small_ones(self):
         for table, turned in (
             ((5, 2, 0, 1), (5, 2, 0, 1)),
@@ -154,7 +152,7 @@ class TurnedTable(Refusing):
         self.assertIs(type(turned_table((10, 3, 0, 1))), tuple)
 
 
-class Barred(Refusing):
+class Barred(RefusingTables):
     def test_room(self):
         self.assertEqual(barred((3, 1, 0, 0)), ("room", -1))
         self.assertEqual(barred((5, 3, 0, 3)), ("room", -1))
@@ -281,7 +279,7 @@ class Barred(Refusing):
         self.assertEqual(barred((28, 9, 0, 4)), barred((28, 9, 0, 4)))
 
 
-class Worths(Refusing):
+class Worths(RefusingTables):
     def test_whole_ones(self):
         for table, told in (
             ((10, 3, 0, 1), ("whole", 1, 5, -2, 4)),
@@ -332,7 +330,7 @@ class Worths(Refusing):
         self.assert_refuses_no_tables(worths)
 
 
-class TablesOf(Refusing):
+class TablesOf(RefusingTables):
     def test_few_places(self):
         self.assertEqual(tables_of(3), [])
         self.assertEqual(tables_of(4), [(4, 1, 0, 0), (4, 2, 0, 2)])

@@ -3,6 +3,7 @@ import unittest
 from evenwebs.errors import NoText
 from evenwebs.texts import read, written
 from evenwebs.webs import is_web
+from refusing import Refusing
 from things import bare, copied, full, no_texts, ring, small_webs
 
 PATH = ((1,), (0, 2), (1,))
@@ -34,12 +35,9 @@ class Written(unittest.TestCase):
         self.assertEqual(len({written(web) for web in webs}), len(webs))
 
 
-class Read(unittest.TestCase):
+class Read(Refusing):
     def assert_refused(self, thing):
-        with self.subTest(repr(thing)[:80]):
-            with self.assertRaises(NoText) as caught:
-                read(thing)
-            self.assertIs(type(caught.exception), NoText)
+        self.assert_refuses(NoText, read, thing)
 
     def test_the_documents_own(self):
         self.assertEqual(read("3 # .#"), PATH)

@@ -4,7 +4,8 @@ import unittest
 from evenwebs.errors import NoPlaces
 from evenwebs.tables import barred, is_table, worths
 from evenwebs.ways import ways_between, ways_by, ways_left
-from test_tables import Refusing, all_tables
+from refusing import Refusing
+from test_tables import RefusingTables, all_tables
 from things import anything, bare, copied, deep, even_webs, fifty_web, full, grid, pairs_out_of, ring, small_webs
 
 PATH = ((1,), (0, 2), (1,))
@@ -84,12 +85,9 @@ def left_by_round(table, many, divisor):
     return row[start + (many - start) % (len(row) - start)]
 
 
-class WaysBetween(unittest.TestCase):
+class WaysBetween(Refusing):
     def assert_refused(self, web, one, other, many):
-        with self.subTest(repr((one, other))[:80]):
-            with self.assertRaises(NoPlaces) as caught:
-                ways_between(web, one, other, many)
-            self.assertIs(type(caught.exception), NoPlaces)
+        self.assert_refuses(NoPlaces, ways_between, web, one, other, many)
 
     def test_no_step(self):
         for web in (((),), PATH, ring(5), full(50), bare(50)):
@@ -169,7 +167,7 @@ class WaysBetween(unittest.TestCase):
         self.assertIs(type(ways_between(grid(3), 0, 1, 9)), int)
 
 
-class WaysBy(Refusing):
+class WaysBy(RefusingTables):
     def test_none_one_and_two_steps(self):
         for table in (PETERSEN, (5, 2, 0, 1), (100, 98, 97, 98)) + BARRED:
             n, k, a, b = table
@@ -233,7 +231,7 @@ class WaysBy(Refusing):
         self.assert_refuses_no_tables(lambda thing: ways_by(thing, 3))
 
 
-class WaysLeft(Refusing):
+class WaysLeft(RefusingTables):
     def test_of_few_steps_what_is_left_of_the_ways(self):
         for table in (PETERSEN, (5, 2, 0, 1), (100, 22, 0, 6), (100, 98, 97, 98)) + BARRED:
             for many in list(range(20)) + [63, 64, 65, 1000]:

@@ -2,6 +2,7 @@ import unittest
 
 from evenwebs.errors import NoPlaces
 from evenwebs.webs import is_web, other_web, tied, ties, web_of
+from refusing import Refusing
 from things import anything, bare, copied, deep, full, ring, small_webs
 
 PATH = ((1,), (0, 2), (1,))
@@ -104,12 +105,9 @@ class IsWeb(unittest.TestCase):
             self.assertEqual(thing, before)
 
 
-class WebOf(unittest.TestCase):
+class WebOf(Refusing):
     def assert_refused(self, many, pairs):
-        with self.subTest(repr((many, pairs))[:80]):
-            with self.assertRaises(NoPlaces) as caught:
-                web_of(many, pairs)
-            self.assertIs(type(caught.exception), NoPlaces)
+        self.assert_refuses(NoPlaces, web_of, many, pairs)
 
     def test_no_pairs(self):
         for many in (1, 2, 3, 50):
