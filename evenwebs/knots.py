@@ -3,6 +3,7 @@
 from evenwebs.errors import TooMany
 
 MOST_SEARCHED = 25
+GREATEST_SIZE = 4
 
 
 def tied_to(web, place, some):

@@ -46,6 +46,10 @@ def evenness(web):
     return ("even", (len(web), len(web[0]), shared_by_all(web, near), shared_by_all(web, far)))
 
 
+def is_even(web):
+    return evenness(web)[0] == "even"
+
+
 def is_pair_as(web, word, one, other):
     if word == "tied":
         return tied(web, one, other)

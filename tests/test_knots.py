@@ -8,8 +8,8 @@ from evenwebs.errors import TooMany
 from evenwebs.knots import greatest_knot, many_knots
 from refusing import Refusing
 from things import (
-    bare, copied, even_webs, fifty_web, four_digit_web, full, grid, lots, pairs_out_of, prime_web, ring, small_webs,
-    web_where,
+    bare, copied, drawn_web, even_webs, fifty_web, four_digit_web, full, grid, lots, pairs_out_of, prime_web, ring,
+    small_webs, web_where,
 )
 
 
@@ -24,12 +24,6 @@ def plain_count(web, size):
 
 def plain_greatest(web):
     return max(size for size in range(1, len(web) + 1) if plain_count(web, size) > 0)
-
-
-def drawn_web(source, many, share):
-    """A web of so many places, each two of them tied with so many chances in a hundred."""
-    joined = {pair for pair in itertools.combinations(range(many), 2) if source.randrange(100) < share}
-    return web_where(many, lambda p, q: (min(p, q), max(p, q)) in joined)
 
 
 def sides(many, size):

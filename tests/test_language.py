@@ -18,6 +18,7 @@ METHODS = set(
     "isupper items join keys ljust lower lstrip partition pop remove replace reverse rfind rjust rpartition "
     "rsplit rstrip setdefault split splitlines startswith strip update upper values zfill bit_length".split()
 )
+VALUES = set("count index title find get join lower upper split strip copy add".split())
 KEYWORDS = {
     "sorted": {"key", "reverse"}, "min": {"key", "default"}, "max": {"key", "default"},
     "sum": {"start"}, "enumerate": {"start"}, "zip": {"strict"},
@@ -203,6 +204,54 @@ class Language(unittest.TestCase):
             self.assertEqual(node.decorator_list + node.keywords, [], node.name)
             for part in node.body:
                 self.assertIsInstance(part, (ast.FunctionDef, ast.Pass), node.name)
+
+    def test_own_methods_and_values(self):
+        methods = set()
+        for name, node in nodes_of(ast.ClassDef):
+            own = [part.name for part in node.body if isinstance(part, ast.FunctionDef)]
+            self.assertEqual(len(own), len(set(own)), node.name)
+            methods |= set(own)
+        values = {node.attr for name, node in nodes_of(ast.Attribute) if isinstance(node.ctx, ast.Store)}
+        self.assertEqual(sorted(methods & values), [])
+        pythons = {each for kind in (str, int, list, dict, set, bytes) for each in dir(kind)}
+        self.assertEqual(sorted(methods & pythons - METHODS - {"add", "discard", "__init__"}), [])
+        self.assertEqual(sorted(values & pythons - VALUES), [])
+        for name, node in nodes_of(ast.Attribute):
+            if isinstance(node.ctx, ast.Store):
+                self.assertIsInstance(node.value, ast.Name, (name, node.lineno))
+
+    def test_own_methods_are_called_where_they_stand(self):
+        values = {node.attr for name, node in nodes_of(ast.Attribute) if isinstance(node.ctx, ast.Store)}
+        for name, node, parent, above in nodes_with_parents():
+            if isinstance(node, ast.Attribute) and node.attr not in values:
+                self.assertTrue(isinstance(parent, ast.Call) and parent.func is node, (name, node.lineno))
+
+    def test_errors_are_raised_and_taken_by_name(self):
+        errors = {node.name for name, node in nodes_of(ast.ClassDef) if name == "errors.py"}
+        for name, node in nodes_of(ast.Raise):
+            self.assertIn(called_name(node.exc), errors, (name, node.lineno))
+            self.assertIsNone(node.cause, (name, node.lineno))
+        for name, node in nodes_of(ast.ExceptHandler):
+            self.assertIn(getattr(node.type, "id", None), errors, (name, node.lineno))
+
+    def test_classes_are_not_handed_on(self):
+        classes = {node.name for name, node in nodes_of(ast.ClassDef)}
+        for name, node, parent, above in nodes_with_parents():
+            if isinstance(node, ast.Name) and node.id in classes:
+                called = isinstance(parent, ast.Call) and parent.func is node
+                self.assertTrue(called or isinstance(parent, (ast.ClassDef, ast.ExceptHandler)), (name, node.lineno))
+
+    def test_what_stands_at_the_top_is_only_read(self):
+        for name, tree in trees():
+            kept = {
+                node.targets[0].id for node in tree.body
+                if isinstance(node, ast.Assign) and isinstance(node.value, (ast.Dict, ast.List))}
+            for other, node, parent, above in nodes_with_parents():
+                if other == name and isinstance(node, ast.Name) and node.id in kept and isinstance(node.ctx, ast.Load):
+                    indexed = isinstance(parent, ast.Subscript) and isinstance(parent.ctx, ast.Load)
+                    self.assertTrue(
+                        indexed or isinstance(parent, (ast.Compare, ast.For, ast.comprehension))
+                        or called_name(parent) in ("len", "sorted", "list", "dict", "tuple"), (name, node.lineno))
 
     def test_values(self):
         for name, node in nodes_of(ast.Constant):

@@ -1,4 +1,5 @@
-"""Things of every kind that may be handed in where "anything" is told."""
+"""Webs made without the program, and things of every kind to hand in where "anything" is told."""
+import itertools
 
 
 def deep(kind, levels):
@@ -66,6 +67,61 @@ def small_webs(most):
 def web_where(many, are_tied):
     """The web of so many places, two of them tied where it is told so, made without the program."""
     return tuple(tuple(q for q in range(many) if q != p and are_tied(p, q)) for p in range(many))
+
+
+def drawn_web(source, many, share):
+    """A web of so many places, each two of them tied with so many chances in a hundred."""
+    joined = {pair for pair in itertools.combinations(range(many), 2) if source.randrange(100) < share}
+    return web_where(many, lambda p, q: (min(p, q), max(p, q)) in joined)
+
+
+def drawn_order(source, many):
+    return tuple(source.sample(range(many), many))
+
+
+def led(web, order):
+    """The web that the order leads to, made without the program."""
+    return web_where(len(web), lambda p, q: order.index(q) in web[order.index(p)])
+
+
+def turned(web, some):
+    """The web turned at some places, made without the program."""
+    return web_where(len(web), lambda p, q: (q in web[p]) != ((p in some) != (q in some)))
+
+
+def tied_anew(web, p, q):
+    """The web with two places tied where they weren't, or else no more, made without the program."""
+    return web_where(len(web), lambda x, y: (y in web[x]) != ({x, y} == {p, q}))
+
+
+def beside(*webs):
+    """The webs one behind the other as one web, none of them tied to another."""
+    rows = []
+    for web in webs:
+        ahead = len(rows)
+        rows.extend(tuple(ahead + q for q in row) for row in web)
+    return tuple(rows)
+
+
+def turned_about(web):
+    """The other web, made without the program."""
+    return web_where(len(web), lambda p, q: q not in web[p])
+
+
+def fits_as_place(thing, many):
+    return type(thing) is int and 0 <= thing < many
+
+
+def no_rising_places(many):
+    """What is no rising tuple of places of a web of so many places, two at least."""
+    fitting = ("()", "(1,)")
+    strange = [thing for thing in anything() if repr(thing) not in fitting]
+    return strange + [
+        (1, 0), (0, 0), (1, 1), (0, many), (many,), (-1,), (-1, 0), (0, -1), (10 ** 59,), (True,), (False,),
+        (0, True), (False, 1), (None,), ("0",), ((0,),), ((),), ([0],), ([],), ({},), (0, None), (0, "1"),
+        [], [0], [0, 1], "", "0", "01", None, True, False, 0, 1, {}, {0: 1}, {0: True}, tuple(range(many + 1)),
+        tuple(range(many)) + (many - 1,), tuple(reversed(range(many))),
+    ]
 
 
 def grid(m):
